@@ -1,0 +1,1 @@
+"""Onlybuilt: statements shown only by building."""

@@ -1,0 +1,88 @@
+"""Statements: their joints, knots, letters and parts, and how they are turned.
+
+Nothing here calls itself: a statement that was told by the program may be
+handed in again, and may be nested deeper than calls may be.
+"""
+
+
+def _standing(a):
+    """All parts of a, each as often as it stands, the left ones ahead of the right ones."""
+    found = []
+    ahead = [a]
+    while ahead:
+        b = ahead.pop()
+        found.append(b)
+        if len(b) == 3:
+            ahead.append(b[2])
+            ahead.append(b[1])
+    return found
+
+
+def joints(a):
+    """How many ands, ors and thens stand in a."""
+    return len([b for b in _standing(a) if len(b) == 3])
+
+
+def knots(a):
+    """How many ors stand in a, and thens in the left part of a then."""
+    many = 0
+    ahead = [(a, False)]
+    while ahead:
+        b, in_left = ahead.pop()
+        if len(b) == 3:
+            word, left, right = b
+            if word == "or" or (word == "then" and in_left):
+                many += 1
+            ahead.append((left, in_left or word == "then"))
+            ahead.append((right, in_left))
+    return many
+
+
+def letters(a):
+    """The names of the letters of a, sorted, each once."""
+    return sorted({b[1] for b in _standing(a) if b[0] == "letter"})
+
+
+def _numbers(standing):
+    """A number for each part of a list of _standing, the same one for equal parts."""
+    # Numbers stand for the left and right parts in the keys, because a key
+    # of the whole statement would be walked anew for each part that it has.
+    known = {}
+    pile = []
+    numbers = []
+    for b in reversed(standing):
+        key = b
+        if len(b) == 3:
+            left = pile.pop()
+            right = pile.pop()
+            key = (b[0], left, right)
+        number = known.setdefault(key, len(known))
+        pile.append(number)
+        numbers.append(number)
+    return numbers[::-1]
+
+
+def parts(a):
+    """The parts of a, each once, in the order in which they first come."""
+    standing = _standing(a)
+    first = {}
+    for number, b in zip(_numbers(standing), standing):
+        first.setdefault(number, b)
+    return list(first.values())
+
+
+def turned(a, book):
+    """The statement a, each letter that is in the book replaced by what the book has."""
+    pile = []
+    # From the end of the row both parts of a joint are done ahead of it,
+    # the left one last, so that it lies uppermost.
+    for b in reversed(_standing(a)):
+        if len(b) == 3:
+            left = pile.pop()
+            right = pile.pop()
+            pile.append((b[0], left, right))
+        elif b[0] == "letter" and b[1] in book:
+            pile.append(book[b[1]])
+        else:
+            pile.append(b)
+    return pile.pop()

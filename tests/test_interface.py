@@ -1,0 +1,82 @@
+"""That the names of the document's interface stand where it lists them, and the code's form."""
+
+import ast
+import importlib
+import pathlib
+import unittest
+
+PACKAGE = pathlib.Path(__file__).resolve().parent.parent / "onlybuilt"
+
+# The functions that have landed, with the names of their arguments.
+FUNCTIONS = {
+    "statements": {
+        "joints": ["a"], "knots": ["a"], "letters": ["a"], "parts": ["a"], "turned": ["a", "book"],
+    },
+    "words": {"is_name": ["text"], "told": ["a"]},
+    "reader": {"read": ["text"]},
+}
+
+
+def trees():
+    return [(path, ast.parse(path.read_text())) for path in sorted(PACKAGE.glob("*.py"))]
+
+
+class Interface(unittest.TestCase):
+
+    def test_functions_are_defined_in_their_files_with_their_arguments(self):
+        found = {path.stem: tree for path, tree in trees()}
+        for file, functions in FUNCTIONS.items():
+            defined = {
+                node.name: [told.arg for told in node.args.args]
+                for node in found[file].body if isinstance(node, ast.FunctionDef)
+            }
+            for name, arguments in functions.items():
+                with self.subTest(file=file, name=name):
+                    self.assertEqual(defined.get(name), arguments)
+
+    def test_arguments_may_be_handed_in_by_name(self):
+        values = {"a": ("letter", "a"), "book": {"a": ("never",)}, "text": "a"}
+        for file, functions in FUNCTIONS.items():
+            module = importlib.import_module(f"onlybuilt.{file}")
+            for name, arguments in functions.items():
+                with self.subTest(file=file, name=name):
+                    told = getattr(module, name)
+                    by_place = told(*[values[word] for word in arguments])
+                    self.assertEqual(told(**{word: values[word] for word in arguments}), by_place)
+
+
+class Form(unittest.TestCase):
+
+    def test_the_package_has_python_files_alone(self):
+        others = [
+            path.name for path in PACKAGE.iterdir()
+            if path.suffix != ".py" and path.name != "__pycache__"
+        ]
+        self.assertEqual(others, [])
+
+    def test_lengths_and_signs(self):
+        for path in PACKAGE.glob("*.py"):
+            text = path.read_text()
+            with self.subTest(path=path.name):
+                self.assertTrue(all(sign == "\n" or " " <= sign <= "~" for sign in text))
+                self.assertLessEqual(max(len(row) for row in text.splitlines()), 120)
+                self.assertLessEqual(len(text.splitlines()), 399)
+
+    def test_functions_have_at_most_40_lines(self):
+        for path, tree in trees():
+            for node in ast.walk(tree):
+                if isinstance(node, ast.FunctionDef):
+                    with self.subTest(path=path.name, name=node.name):
+                        self.assertLessEqual(node.end_lineno - node.lineno + 1, 40)
+
+    def test_nothing_is_imported_from_outside(self):
+        for path, tree in trees():
+            for node in ast.walk(tree):
+                self.assertNotIsInstance(node, ast.Import, path.name)
+                if isinstance(node, ast.ImportFrom):
+                    with self.subTest(path=path.name, module=node.module):
+                        self.assertTrue(node.module.startswith("onlybuilt."))
+
+
+if __name__ == "__main__":
+    unittest.main()
