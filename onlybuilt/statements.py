@@ -43,11 +43,14 @@ def letters(a):
     return sorted({b[1] for b in _standing(a) if b[0] == "letter"})
 
 
-def _numbers(standing):
-    """A number for each part of a list of _standing, the same one for equal parts."""
+def _numbers(standing, known):
+    """A number for each part of a list of _standing, the same one for equal parts.
+
+    The dict known keeps the number of each part: a joint is known there by
+    its word and the numbers of its left and right part.
+    """
     # Numbers stand for the left and right parts in the keys, because a key
     # of the whole statement would be walked anew for each part that it has.
-    known = {}
     pile = []
     numbers = []
     for b in reversed(standing):
@@ -66,9 +69,22 @@ def parts(a):
     """The parts of a, each once, in the order in which they first come."""
     standing = _standing(a)
     first = {}
-    for number, b in zip(_numbers(standing), standing):
+    for number, b in zip(_numbers(standing, {}), standing):
         first.setdefault(number, b)
     return list(first.values())
+
+
+def rows_of(statements):
+    """A list of all parts of the statements, each once, behind its own parts.
+
+    Letters and never stand there as they are, a joint as (word, left, right),
+    left and right being the places of its parts in the list. The last row is
+    that of the statement, where there is only one.
+    """
+    known = {}
+    for a in statements:
+        _numbers(_standing(a), known)
+    return list(known)
 
 
 def turned(a, book):

@@ -7,6 +7,16 @@ the document tells it; the tests compare the program with it.
 import re
 
 
+def is_statement(a):
+    if not isinstance(a, tuple) or a[0] not in ("letter", "never", "and", "or", "then"):
+        return False
+    if a[0] == "letter":
+        return len(a) == 2 and bool(re.fullmatch("[a-z]{1,8}", a[1]))
+    if a[0] == "never":
+        return len(a) == 1
+    return len(a) == 3 and is_statement(a[1]) and is_statement(a[2])
+
+
 def joints(a):
     return 0 if len(a) < 3 else 1 + joints(a[1]) + joints(a[2])
 

@@ -14,6 +14,25 @@ FUNCTIONS = {
     },
     "words": {"is_name": ["text"], "told": ["a"]},
     "reader": {"read": ["text"]},
+    "growths": {
+        "is_growth": ["stands"], "holds": ["growth", "k", "a"], "seen": ["growth", "a"],
+        "above": ["growth", "k"], "cut": ["growth", "k"], "under": ["growths", "letters"],
+    },
+    "folds": {"folded": ["growth", "statements"]},
+    "likes": {"compared": ["one", "other"]},
+    "papers": {
+        "shows": ["givens", "paper"], "shows_by": ["book", "givens", "paper"],
+        "turned_paper": ["paper", "book"],
+    },
+}
+
+A = ("letter", "a")
+
+# For each argument a value that may be handed in.
+VALUES = {
+    "a": A, "book": {"a": ("never",)}, "text": "a", "stands": [(["a"], [])],
+    "growth": [([], [1]), (["a"], [])], "k": 0, "growths": [[(["a"], [])]], "letters": ["a"],
+    "statements": [A], "one": [([], [])], "other": [(["a"], [])], "givens": [A], "paper": ("use", 0),
 }
 
 
@@ -35,14 +54,13 @@ class Interface(unittest.TestCase):
                     self.assertEqual(defined.get(name), arguments)
 
     def test_arguments_may_be_handed_in_by_name(self):
-        values = {"a": ("letter", "a"), "book": {"a": ("never",)}, "text": "a"}
         for file, functions in FUNCTIONS.items():
             module = importlib.import_module(f"onlybuilt.{file}")
             for name, arguments in functions.items():
                 with self.subTest(file=file, name=name):
                     told = getattr(module, name)
-                    by_place = told(*[values[word] for word in arguments])
-                    self.assertEqual(told(**{word: values[word] for word in arguments}), by_place)
+                    by_place = told(*[VALUES[word] for word in arguments])
+                    self.assertEqual(told(**{word: VALUES[word] for word in arguments}), by_place)
 
 
 class Form(unittest.TestCase):
