@@ -1,6 +1,7 @@
 """Growths folded: stands at which the same parts of some statements hold made one."""
 
-from onlybuilt.growths import above, has_bit, where
+from onlybuilt.bits import has
+from onlybuilt.growths import above, where
 from onlybuilt.statements import rows_of
 
 
@@ -10,7 +11,7 @@ def _wider(found, parts, chosen):
     stands = -1
     for n in parts:
         stands = stands & found[n]
-    return [place for place, k in enumerate(chosen) if has_bit(stands, k)]
+    return [place for place, k in enumerate(chosen) if has(stands, k)]
 
 
 def _letters(rows, parts):
@@ -25,7 +26,7 @@ def folded(growth, statements):
     sets = {}
     least = {}
     for k in above(growth, 0):
-        parts = tuple([n for n in range(len(rows)) if has_bit(found[n], k)])
+        parts = tuple([n for n in range(len(rows)) if has(found[n], k)])
         sets[k] = parts
         least.setdefault(parts, k)
     # One stand for each set, those of fewer parts first.

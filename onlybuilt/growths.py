@@ -1,10 +1,9 @@
 """Growths: stands in which letters come and never go, and what holds at them.
 
-Some stands of a growth are told between the functions of the program as one
-whole number, which has the bit 1 << k just where the stand of number k is
-one of them.
+Some stands of a growth are told between the functions of the program as bits.
 """
 
+from onlybuilt.bits import has, together
 from onlybuilt.errors import NoGrowth
 from onlybuilt.statements import rows_of
 from onlybuilt.words import is_name
@@ -41,11 +40,6 @@ def is_growth(stands):
     return _names_stay(stands)
 
 
-def has_bit(stands, k):
-    """Whether the stand of number k is one of the stands, told as one number."""
-    return stands >> k & 1 == 1
-
-
 def _ups(growth):
     """For each stand those at or above it."""
     ups = [0] * len(growth)
@@ -60,7 +54,7 @@ def _ups(growth):
 
 def _with_letter(growth, name):
     """The stands that have the name."""
-    return sum([1 << k for k, (names, _) in enumerate(growth) if name in names])
+    return together([k for k, (names, _) in enumerate(growth) if name in names])
 
 
 def _with_joint(ups, word, left, right):
@@ -70,7 +64,7 @@ def _with_joint(ups, word, left, right):
     if word == "or":
         return left | right
     barring = left & ~right
-    return sum([1 << k for k, up in enumerate(ups) if up & barring == 0])
+    return together([k for k, up in enumerate(ups) if up & barring == 0])
 
 
 def where(growth, rows):
@@ -90,7 +84,7 @@ def where(growth, rows):
 def seen(growth, a):
     """For each stand whether a holds there."""
     stands = where(growth, rows_of([a]))[-1]
-    return [has_bit(stands, k) for k in range(len(growth))]
+    return [has(stands, k) for k in range(len(growth))]
 
 
 def holds(growth, k, a):
@@ -101,7 +95,7 @@ def holds(growth, k, a):
 def above(growth, k):
     """The numbers of the stands at or above that of number k, sorted."""
     up = _ups(growth)[k]
-    return [j for j in range(len(growth)) if has_bit(up, j)]
+    return [j for j in range(len(growth)) if has(up, j)]
 
 
 def cut(growth, k):

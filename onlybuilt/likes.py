@@ -1,7 +1,8 @@
 """Growths compared: the stands of both that are like, or a statement that tells them apart."""
 
+from onlybuilt.bits import has
 from onlybuilt.errors import TooLarge
-from onlybuilt.growths import above, cut, has_bit, under, where
+from onlybuilt.growths import above, cut, under, where
 from onlybuilt.statements import joints, rows_of
 
 MOST = 6
@@ -42,13 +43,13 @@ def _row(growth, a):
 
 def _teller(found, k, j):
     """The row of a statement that holds at just one of the stands k and j, or None."""
-    fit = [row for row in found if has_bit(row[1], k) != has_bit(row[1], j)]
+    fit = [row for row in found if has(row[1], k) != has(row[1], j)]
     return min(fit, key=lambda row: row[0]) if fit else None
 
 
 def _is_told(found, k, j):
     """Whether a statement that is found holds at j and not at k."""
-    return any([has_bit(row[1], j) and not has_bit(row[1], k) for row in found])
+    return any([has(row[1], j) and not has(row[1], k) for row in found])
 
 
 def _then_between(found, k, j_up):
@@ -65,11 +66,11 @@ def _then_between(found, k, j_up):
         if row is None:
             return None
         _, stands, a = row
-        if has_bit(stands, k):
+        if has(stands, k):
             held.append(a)
         else:
             lacking.append(a)
-        left = [j for j in left if has_bit(stands, j) == has_bit(stands, k)]
+        left = [j for j in left if has(stands, j) == has(stands, k)]
     return ("then", _joined("and", held), _joined("or", lacking or [("never",)]))
 
 

@@ -6,7 +6,7 @@ tuple of its word, of what it is about, and of the road to the paper there.
 """
 
 from onlybuilt.errors import NoGiven, NotThat, Unnamed
-from onlybuilt.forms import PAPERS, STATEMENT, papers_within, rebuilt
+from onlybuilt.forms import PAPERS, STATEMENT, remade
 from onlybuilt.statements import turned
 
 
@@ -155,10 +155,4 @@ def _turned_alone(paper, book):
 
 def turned_paper(paper, book):
     """The paper with each statement in it turned by the book."""
-    pile = []
-    # From the end of the list all papers within one are done ahead of it, the
-    # leftmost last, so that it lies uppermost.
-    for p in reversed(papers_within(paper)):
-        papers = [pile.pop() for _ in PAPERS[p[0]]]
-        pile.append(rebuilt(_turned_alone(p, book), papers))
-    return pile.pop()
+    return remade(paper, lambda p, many: _turned_alone(p, book))

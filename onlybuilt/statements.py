@@ -74,17 +74,21 @@ def parts(a):
     return list(first.values())
 
 
-def rows_of(statements):
-    """A list of all parts of the statements, each once, behind its own parts.
+def numbered(statements):
+    """A list of all parts of the statements, and for each statement its place in the list.
 
-    Letters and never stand there as they are, a joint as (word, left, right),
-    left and right being the places of its parts in the list. The last row is
-    that of the statement, where there is only one.
+    Each part is there once, behind its own parts: letters and never as they
+    are, a joint as (word, left, right), left and right being the places of
+    its parts in the list.
     """
     known = {}
-    for a in statements:
-        _numbers(_standing(a), known)
-    return list(known)
+    places = [_numbers(_standing(a), known)[0] for a in statements]
+    return list(known), places
+
+
+def rows_of(statements):
+    """The list of all parts of the statements, as numbered tells it."""
+    return numbered(statements)[0]
 
 
 def turned(a, book):

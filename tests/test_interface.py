@@ -24,16 +24,25 @@ FUNCTIONS = {
         "shows": ["givens", "paper"], "shows_by": ["book", "givens", "paper"],
         "turned_paper": ["paper", "book"],
     },
+    "shifts": {
+        "size": ["paper"], "deep": ["paper"], "moved": ["paper", "at", "by"],
+        "put_in": ["paper", "at", "other"],
+    },
+    "steps": {"step": ["many", "paper"]},
+    "runs": {"run": ["many", "paper", "steps", "room"]},
+    "seek": {"seek": ["givens", "goal"]},
 }
 
 A = ("letter", "a")
 
-# For each argument a value that may be handed in.
+# For each argument a value that may be handed in, where a function asks for no other one.
 VALUES = {
     "a": A, "book": {"a": ("never",)}, "text": "a", "stands": [(["a"], [])],
     "growth": [([], [1]), (["a"], [])], "k": 0, "growths": [[(["a"], [])]], "letters": ["a"],
     "statements": [A], "one": [([], [])], "other": [(["a"], [])], "givens": [A], "paper": ("use", 0),
+    "at": 0, "by": 1, "many": 1, "steps": 3, "room": 9, "goal": A,
 }
+OTHERS = {"put_in": {"other": ("use", 1)}}
 
 
 def trees():
@@ -59,8 +68,8 @@ class Interface(unittest.TestCase):
             for name, arguments in functions.items():
                 with self.subTest(file=file, name=name):
                     told = getattr(module, name)
-                    by_place = told(*[VALUES[word] for word in arguments])
-                    self.assertEqual(told(**{word: VALUES[word] for word in arguments}), by_place)
+                    values = {word: VALUES[word] for word in arguments} | OTHERS.get(name, {})
+                    self.assertEqual(told(**values), told(*[values[word] for word in arguments]))
 
 
 class Form(unittest.TestCase):
