@@ -1,9 +1,25 @@
 """Papers run: one step behind the other."""
 
-from onlybuilt.shifts import deep, size
+from onlybuilt.forms import PAPERS
+from onlybuilt.shifts import deep
 from onlybuilt.steps import step
 
 MOST_DEEP = 200
+
+
+def _is_larger(paper, room):
+    """Whether the paper has a greater size than the room."""
+    # It is not measured whole, as the next paper of a large one may be far
+    # larger than can be counted.
+    many = 0
+    ahead = [paper]
+    while ahead:
+        p = ahead.pop()
+        many += 1
+        if many > room:
+            return True
+        ahead.extend([p[place] for place in PAPERS[p[0]]])
+    return False
 
 
 def run(many, paper, steps, room):
@@ -15,7 +31,7 @@ def run(many, paper, steps, room):
             return ("rest", paper, done)
         if done == steps:
             return ("more", paper, done)
-        if size(ahead) > room or deep(ahead) > MOST_DEEP:
+        if _is_larger(ahead, room) or deep(ahead) > MOST_DEEP:
             return ("large", paper, done)
         paper = ahead
         done += 1

@@ -72,21 +72,21 @@ class Search:
             if not has(facts, right) and right != left:
                 found.append((right, (1 << x, "second", x)))
             return found
-        way = None if has(facts, right) else self.found(facts, left, False)
+        way = None if has(facts, right) else self.straight(facts, left, False)
         return [] if way is None else [(right, (way[0] | 1 << x, "apply", x, way))]
 
     def way(self, facts, g):
         """A way from the facts to the part g, or None where there is none."""
         if (facts, g) not in self.ways:
             wide, hows = self.wide(facts)
-            way = self.found(wide, g, True)
+            way = self.straight(wide, g, True)
             if way is not None:
                 for fact, how in reversed(hows):
                     way = _with(fact, how, way)
             self.ways[(facts, g)] = way
         return self.ways[(facts, g)]
 
-    def found(self, facts, g, cases):
+    def straight(self, facts, g, cases):
         """A way from the facts, with none shown ahead of it, or None; without cases where these are not allowed."""
         if has(facts, g):
             return (1 << g, "have", g)
@@ -106,21 +106,21 @@ class Search:
         return None
 
     def _pair(self, facts, row, cases):
-        at_left = self.found(facts, row[1], cases)
-        at_right = None if at_left is None else self.found(facts, row[2], cases)
+        at_left = self.straight(facts, row[1], cases)
+        at_right = None if at_left is None else self.straight(facts, row[2], cases)
         return None if at_right is None else (at_left[0] | at_right[0], "pair", at_left, at_right)
 
     def _make(self, facts, row, cases):
         _, a, b = row
-        way = self.found(facts, b, cases) if has(facts, a) else self.way(facts | 1 << a, b)
+        way = self.straight(facts, b, cases) if has(facts, a) else self.way(facts | 1 << a, b)
         return None if way is None else (without(way[0], a), "make", a, way)
 
     def _side(self, facts, row, cases):
         _, a, b = row
-        way = self.found(facts, a, cases)
+        way = self.straight(facts, a, cases)
         if way is not None:
             return (way[0], "left", way, b)
-        way = self.found(facts, b, cases)
+        way = self.straight(facts, b, cases)
         return None if way is None else (way[0], "right", a, way)
 
     def unsplit(self, facts):

@@ -2,7 +2,7 @@ import unittest
 
 from onlybuilt.papers import shows_by
 from onlybuilt.runs import run
-from onlybuilt.shifts import deep, size
+from onlybuilt.shifts import deep, moved, put_in, size
 from onlybuilt.steps import step
 from tests import sample_papers, second_steps
 from tests.sample_papers import BOOK
@@ -111,6 +111,17 @@ class Run(unittest.TestCase):
         self.assertEqual((word, done), ("large", 0))
         word, after, done = run(1, ("first", ("pair", inner, U0)), 9, 14)
         self.assertEqual((word, after, done), ("large", inner, 1))
+
+    def test_a_next_paper_that_is_far_too_large(self):
+        doubled = ("pair", U0, U0)
+        for _ in range(4):
+            doubled = put_in(doubled, 0, doubled)
+        self.assertEqual(size(doubled), 2 ** 17 - 1)
+        # Its next one has some four thousand millions of papers.
+        paper = ("apply", ("make", A, moved(doubled, 0, 1)), doubled)
+        word, after, done = run(1, paper, 5, 1000)
+        self.assertEqual((word, done), ("large", 0))
+        self.assertIs(after, paper)
 
     def test_as_told_a_second_time(self):
         found = {"rest": 0, "more": 0, "large": 0}
