@@ -7,7 +7,7 @@ tuple of its word, of what it is about, and of the road to the paper there.
 
 from onlybuilt.errors import NoGiven, NotThat, Unnamed
 from onlybuilt.forms import PAPERS, STATEMENT, remade
-from onlybuilt.statements import turned
+from onlybuilt.statements import same, turned
 
 
 def _pair(paper, below):
@@ -31,7 +31,7 @@ def _right(paper, below):
 
 
 def _case(paper, below):
-    return paper[4] if below[0] == paper[4] and below[1] == paper[4] else None
+    return paper[4] if same(below[0], paper[4]) and same(below[1], paper[4]) else None
 
 
 def _make(paper, below):
@@ -40,7 +40,7 @@ def _make(paper, below):
 
 def _apply(paper, below):
     shown, a = below
-    return shown[2] if shown[0] == "then" and shown[1] == a else None
+    return shown[2] if shown[0] == "then" and same(shown[1], a) else None
 
 
 def _escape(paper, below):
@@ -95,8 +95,11 @@ def _tasks_behind_or(a, paper, road):
     return [*at_left, *at_right, ("show", paper, road)]
 
 
-def _shown_by(paper, below, road):
-    """What the paper shows, whose papers show the statements below."""
+def _shown_by(paper, shown, road):
+    """What the paper shows; what its papers show is taken off the end of shown."""
+    right = shown.pop()
+    # Of a case the first paper was taken off ahead of the others.
+    below = [right] if len(PAPERS[paper[0]]) == 1 else [shown.pop(), right]
     rule = SHOWN[paper[0]]
     a = rule(paper, below)
     if a is None:
@@ -116,28 +119,39 @@ def _had(book, given, paper, road):
     return given[key]
 
 
-def shows_by(book, givens, paper):
-    """What the paper shows from the givens, the book telling what its names show."""
+def looked_over(book, givens, paper):
+    """What is met in a look over the paper, in order, as tuples of a word, a paper and a statement.
+
+    ("shown", p, a): the paper p within it, or at last the paper itself, shows
+    a; ("assume", None, a): a is assumed for what follows; ("forget", None, a):
+    it is no more.
+    """
     given = list(givens)
     shown = []
+    met = []
     tasks = [("look", paper, ())]
     while tasks:
         deed, about, road = tasks.pop()
         if deed == "assume":
             given.append(about)
+            met.append((deed, None, about))
         elif deed == "forget":
             given.pop()
+            met.append((deed, None, about))
         elif deed == "part":
             tasks.extend(_tasks_behind_or(shown.pop(), about, road)[::-1])
-        elif deed == "show":
-            right = shown.pop()
-            below = [right] if len(PAPERS[about[0]]) == 1 else [shown.pop(), right]
-            shown.append(_shown_by(about, below, road))
-        elif PAPERS[about[0]]:
+        elif deed == "look" and PAPERS[about[0]]:
             tasks.extend(_tasks(about, road)[::-1])
         else:
-            shown.append(_had(book, given, about, road))
-    return shown.pop()
+            a = _had(book, given, about, road) if deed == "look" else _shown_by(about, shown, road)
+            shown.append(a)
+            met.append(("shown", about, a))
+    return met
+
+
+def shows_by(book, givens, paper):
+    """What the paper shows from the givens, the book telling what its names show."""
+    return looked_over(book, givens, paper)[-1][2]
 
 
 def shows(givens, paper):

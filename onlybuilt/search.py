@@ -21,7 +21,7 @@ from onlybuilt.bits import has, without
 from onlybuilt.statements import numbered
 
 
-def _with(fact, how, way):
+def shown_ahead(fact, how, way):
     """The way, with the fact shown ahead of it where the way rests on that."""
     if not has(way[0], fact):
         return way
@@ -82,7 +82,7 @@ class Search:
             way = self.straight(wide, g, True)
             if way is not None:
                 for fact, how in reversed(hows):
-                    way = _with(fact, how, way)
+                    way = shown_ahead(fact, how, way)
             self.ways[(facts, g)] = way
         return self.ways[(facts, g)]
 

@@ -91,6 +91,30 @@ def rows_of(statements):
     return numbered(statements)[0]
 
 
+def told_by(rows):
+    """The parts that the rows of numbered tell, as statements."""
+    told = []
+    for row in rows:
+        told.append((row[0], told[row[1]], told[row[2]]) if len(row) == 3 else row)
+    return told
+
+
+def same(a, b):
+    """Whether both statements are the same."""
+    # Not by ==, which calls itself over the parts of tuples.
+    ahead = [(a, b)]
+    while ahead:
+        one, other = ahead.pop()
+        if one[0] != other[0]:
+            return False
+        if len(one) == 3:
+            ahead.append((one[2], other[2]))
+            ahead.append((one[1], other[1]))
+        elif one != other:
+            return False
+    return True
+
+
 def turned(a, book):
     """The statement a, each letter that is in the book replaced by what the book has."""
     pile = []

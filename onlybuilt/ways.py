@@ -1,14 +1,15 @@
 """Ways of a search written as papers."""
 
 from onlybuilt.forms import papers_within
+from onlybuilt.statements import told_by
 
 
-def _statements(rows):
-    """The parts told by the rows of a search, as statements."""
-    told = []
-    for row in rows:
-        told.append((row[0], told[row[1]], told[row[2]]) if len(row) == 3 else row)
-    return told
+def uses(places):
+    """For the place of each of some givens its use; of givens that are the same that of the first one."""
+    had = {}
+    for k, place in enumerate(places):
+        had.setdefault(place, ("use", k))
+    return had
 
 
 def _assumes(paper):
@@ -21,7 +22,7 @@ class Writer:
 
     def __init__(self, rows):
         self.rows = rows
-        self.told = _statements(rows)
+        self.told = told_by(rows)
 
     def written(self, way, had, many):
         """The paper of the way, where so many are given, and had tells the papers of its facts."""

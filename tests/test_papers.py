@@ -303,6 +303,22 @@ class Purity(unittest.TestCase):
             a = shows([C], paper)
             self.assertEqual(shows([a, NEVER], ("apply", ("make", a, U0), U0)), a)
 
+    def test_statements_that_are_deeper_than_calls_may_be_are_compared(self):
+        def chain(last):
+            a = last
+            for _ in range(3000):
+                a = leads(B, a)
+            return a
+
+        # Each one is made anew, so that no two of them are one object.
+        self.assertEqual(shows([chain(A)], ("apply", ("make", chain(A), ("make", C, U2)), U0))[1], C)
+        with self.assertRaises(NotThat):
+            shows([chain(A)], ("apply", ("make", chain(D), U1), U0))
+        case = ("case", U0, U1, U1, chain(A))
+        self.assertEqual(shows([either(chain(A), chain(A))], case)[1], B)
+        with self.assertRaises(NotThat):
+            shows([either(chain(A), chain(D))], case)
+
 
 if __name__ == "__main__":
     unittest.main()
