@@ -31,6 +31,20 @@ FUNCTIONS = {
     "steps": {"step": ["many", "paper"]},
     "runs": {"run": ["many", "paper", "steps", "room"]},
     "seek": {"seek": ["givens", "goal"]},
+    "middles": {"middle": ["ones", "others", "goal"]},
+    "doubles": {"doubled": ["a"], "negative": ["a"], "settled": ["a"]},
+    "tables": {"true_at": ["row", "a"], "twice": ["givens", "goal"]},
+    "code": {"code": ["paper"]},
+    "machine": {"run_code": ["rows", "most"]},
+    "sheets": {"sheet": ["givens", "paper"]},
+    "lines": {"read_sheet": ["rows"]},
+}
+
+# The methods of the class Hall, with the names of their arguments.
+HALL = {
+    "claim": ["name", "statement"], "show": ["name", "paper"], "drop": ["name"], "strike": ["name"], "back": [],
+    "names": [], "statement": ["name"], "paper": ["name"], "__len__": [], "standing": [], "why": ["name"],
+    "full": ["name"], "sought": ["name", "names"],
 }
 
 A = ("letter", "a")
@@ -40,9 +54,13 @@ VALUES = {
     "a": A, "book": {"a": ("never",)}, "text": "a", "stands": [(["a"], [])],
     "growth": [([], [1]), (["a"], [])], "k": 0, "growths": [[(["a"], [])]], "letters": ["a"],
     "statements": [A], "one": [([], [])], "other": [(["a"], [])], "givens": [A], "paper": ("use", 0),
-    "at": 0, "by": 1, "many": 1, "steps": 3, "room": 9, "goal": A,
+    "at": 0, "by": 1, "many": 1, "steps": 3, "room": 9, "goal": A, "ones": [A], "others": [A], "row": ["a"],
+    "rows": [("make", 2), ("back",), ("take", 0), ("back",)], "most": 9,
 }
-OTHERS = {"put_in": {"other": ("use", 1)}}
+OTHERS = {
+    "put_in": {"other": ("use", 1)}, "middle": {"others": [("then", A, ("letter", "b"))]},
+    "code": {"paper": ("make", A, ("use", 0))}, "read_sheet": {"rows": ["1. a by given"]},
+}
 
 
 def trees():
@@ -61,6 +79,18 @@ class Interface(unittest.TestCase):
             for name, arguments in functions.items():
                 with self.subTest(file=file, name=name):
                     self.assertEqual(defined.get(name), arguments)
+
+    def test_the_methods_of_a_hall_are_defined_in_the_class(self):
+        tree = dict((path.stem, tree) for path, tree in trees())["hall"]
+        [made] = [node for node in tree.body if isinstance(node, ast.ClassDef) and node.name == "Hall"]
+        defined = {
+            node.name: [told.arg for told in node.args.args][1:]
+            for node in made.body if isinstance(node, ast.FunctionDef)
+        }
+        for name, arguments in HALL.items():
+            with self.subTest(name=name):
+                self.assertEqual(defined.get(name), arguments)
+        self.assertEqual(defined["__init__"], [])
 
     def test_arguments_may_be_handed_in_by_name(self):
         for file, functions in FUNCTIONS.items():
