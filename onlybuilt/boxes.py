@@ -12,7 +12,7 @@ class Box:
 
     def __init__(self, first):
         self.first = first
-        self.end = first
+        self.last = first
         # The rows that stand in it and in no box within it.
         self.own = {}
         # The boxes that have ended and stood right within it, by their first rows.
@@ -21,7 +21,7 @@ class Box:
     def put(self, k):
         """Put the row at the place k into it."""
         self.own[str(k + 1)] = k
-        self.end = k
+        self.last = k
 
 
 class Reading:
@@ -78,7 +78,7 @@ class Reading:
         """The row that is named, or the first row of the box and its end; none where it is not seen."""
         if kind == "box":
             box = self.around[-1].ended.get(number)
-            return [] if box is None else [box.first, box.end]
+            return [] if box is None else [box.first, box.last]
         for box in self.around:
             if number in box.own:
                 return [box.own[number]]

@@ -180,6 +180,19 @@ class Kept(unittest.TestCase):
         made.show("n10", PAPER)
         self.assertEqual(made.standing(), names)
 
+    def test_thirty_names_each_of_which_rests_on_all_ahead_of_it(self):
+        names = [f"n{k:02}" for k in range(30)]
+        made = hall(**dict.fromkeys(names))
+        for k, word in enumerate(names):
+            made.show(word, resting(*names[:k]))
+        self.assertEqual(made.standing(), names)
+        self.assertEqual(made.why("n29"), ("stands", names))
+        refused(self, "TooLarge", made.full, "n29")
+        made.drop("n00")
+        self.assertEqual(made.standing(), [])
+        word, road = made.why("n29")
+        self.assertEqual((word, road[0], road[-1]), ("open", "n29", "n00"))
+
     def test_arguments_by_their_names(self):
         made = Hall()
         made.claim(name="a", statement=SAME)

@@ -412,6 +412,14 @@ class TooLarge(unittest.TestCase):
         refused(self, "TooLarge", read_sheet, [*rows, f"{at + 1}. a by again {at}"])
         refused(self, "TooLarge", read_sheet, [*rows, f"{at + 1}. a or b by left {at}"])
 
+    def test_large_rows_in_boxes_that_are_not_used(self):
+        rows = sample_sheets.doubling(100)
+        at = len(rows)
+        rows += [f"| {at + 1}. c by assumed", f"| {at + 2}. a by again {at}", f"| {at + 3}. a and a by pair {at} {at + 2}",
+                 f"{at + 4}. c then a and a by make {at + 1}"]
+        refused(self, "TooLarge", read_sheet, rows)
+        self.assertEqual(read_sheet([*rows, f"{at + 5}. a or b by left 1"])[2], ("left", U0, B))
+
     def test_behind_a_row_that_is_bad(self):
         rows = sample_sheets.doubling(140)
         at = len(rows)

@@ -154,12 +154,14 @@ class Middles(Told):
         # Rooms that were found by looking for deep papers.
         rows = (
             (["l and ((g then (j then f then l and (h then l and a and l)) and a) then never)"], ["a", "l"], "g"),
+            (["e and ((l then e and (h then g then j then d and e and d)) and d) then never"], ["d", "e"], "a"),
+            (["(j then e then k and (i and (b then g then i and k)) and k and i) then never"], ["k", "i"], "never"),
             (["i"], ["h"], "(h and (c then h and ((d then i or j) and h and i)) then never) and h then a"),
         )
         for ones, others, goal in rows:
             ones, others = [read(text) for text in ones], [read(text) for text in others]
             word, _, to, back = self.is_told(ones, others, read(goal))
-            self.assertLessEqual(max(deep(to), deep(back)), 60)
+            self.assertLessEqual(max(deep(to), deep(back)), 100)
             self.assertLessEqual(max(size(to), size(back)), 1000)
 
 
