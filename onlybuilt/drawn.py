@@ -11,8 +11,8 @@ def measures(lines):
         if word == "again":
             found.append(below[0])
         else:
-            size = 1 + sum([many for many, _ in below])
-            found.append((size, 1 + max([depth for _, depth in below], default=0)))
+            whole = 1 + sum([many for many, _ in below])
+            found.append((whole, 1 + max([depth for _, depth in below], default=0)))
     return found[-1]
 
 

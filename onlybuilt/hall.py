@@ -1,14 +1,12 @@
 """A hall: statements under names, whose papers rest on one another."""
 
-from onlybuilt.errors import InUse, NoName, NoPaper, NotStanding, Nothing, Taken, TooLarge, Unlike
+from onlybuilt.bounds import look_at_measures
+from onlybuilt.errors import InUse, NoName, NoPaper, NotStanding, Nothing, Taken, Unlike
 from onlybuilt.fulls import full_measures, full_paper, named
 from onlybuilt.papers import shows_by
 from onlybuilt.rests import borne, rested_on, road_from, standing_in_order
 from onlybuilt.seek import seek
 from onlybuilt.statements import same
-
-MOST_SIZE = 2000
-MOST_DEPTH = 200
 
 
 class Hall:
@@ -116,9 +114,8 @@ class Hall:
         measures = {}
         for other in order:
             measures[other] = full_measures(self.paper(other), measures)
-        size, depth = measures[name]
-        if size > MOST_SIZE or depth > MOST_DEPTH:
-            raise TooLarge(f"the full paper of {name} is too large")
+        many, depth = measures[name]
+        look_at_measures(many, depth)
         fulls = {}
         for other in order:
             fulls[other] = full_paper(self.paper(other), fulls)

@@ -1,12 +1,10 @@
 """Sheets read as papers."""
 
+from onlybuilt.bounds import look_at_measures
 from onlybuilt.boxes import Reading
 from onlybuilt.drawn import drawn, measures
-from onlybuilt.errors import BadRow, NoText, TooLarge
+from onlybuilt.errors import BadRow, NoText
 from onlybuilt.reader import read
-
-MOST_SIZE = 2000
-MOST_DEPTH = 200
 
 
 def _split(row, number):
@@ -40,8 +38,7 @@ def read_sheet(rows):
             raise BadRow(number)
     if not rows or reading.level() > 0:
         raise BadRow(len(rows))
-    size, depth = measures(reading.lines)
-    if size > MOST_SIZE or depth > MOST_DEPTH:
-        raise TooLarge("the paper of the last row is too large")
+    many, depth = measures(reading.lines)
+    look_at_measures(many, depth)
     statements = [line[0] for line in reading.lines]
     return statements[:reading.givens], statements[-1], drawn(reading.lines, reading.givens)

@@ -1,10 +1,9 @@
 """Papers run: one step behind the other."""
 
+from onlybuilt.bounds import MOST_DEPTH
 from onlybuilt.forms import PAPERS
 from onlybuilt.shifts import deep
 from onlybuilt.steps import step
-
-MOST_DEEP = 200
 
 
 def _is_larger(paper, room):
@@ -31,7 +30,7 @@ def run(many, paper, steps, room):
             return ("rest", paper, done)
         if done == steps:
             return ("more", paper, done)
-        if _is_larger(ahead, room) or deep(ahead) > MOST_DEEP:
+        if _is_larger(ahead, room) or deep(ahead) > MOST_DEPTH:
             return ("large", paper, done)
         paper = ahead
         done += 1
