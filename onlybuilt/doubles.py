@@ -48,11 +48,6 @@ def _settles(n):
     return ("then", doubled(n), n)
 
 
-def _settles(n):
-    """What a paper shows that settles n."""
-    return ("then", doubled(n), n)
-
-
 def _child(n, child, many, settles, u, taken):
     """A paper that shows a child of n, where so many are given.
 

@@ -4,8 +4,10 @@ import ast
 import importlib
 import pathlib
 import unittest
+from collections import Counter
 
-PACKAGE = pathlib.Path(__file__).resolve().parent.parent / "onlybuilt"
+TESTS = pathlib.Path(__file__).resolve().parent
+PACKAGE = TESTS.parent / "onlybuilt"
 
 # The functions that have landed, with the names of their arguments.
 FUNCTIONS = {
@@ -63,8 +65,28 @@ OTHERS = {
 }
 
 
-def trees():
-    return [(path, ast.parse(path.read_text())) for path in sorted(PACKAGE.glob("*.py"))]
+def trees(folder=PACKAGE):
+    return [(path, ast.parse(path.read_text())) for path in sorted(folder.glob("*.py"))]
+
+
+def bound(body):
+    """The names that the rows of a file or of a class bind there, each as often as they bind it."""
+    names = []
+    for row in body:
+        if isinstance(row, (ast.FunctionDef, ast.ClassDef)):
+            names.append(row.name)
+        elif isinstance(row, (ast.Import, ast.ImportFrom)):
+            names.extend([told.asname or told.name for told in row.names])
+        elif isinstance(row, (ast.Assign, ast.AnnAssign)):
+            targets = row.targets if isinstance(row, ast.Assign) else [row.target]
+            names.extend([node.id for target in targets for node in ast.walk(target) if isinstance(node, ast.Name)])
+    return names
+
+
+def bound_again(tree):
+    """The names that are bound more than once at the top of a file, or in one of its classes."""
+    bodies = [tree.body] + [node.body for node in ast.walk(tree) if isinstance(node, ast.ClassDef)]
+    return [name for body in bodies for name, many in Counter(bound(body)).items() if many > 1]
 
 
 class Interface(unittest.TestCase):
@@ -125,6 +147,21 @@ class Form(unittest.TestCase):
                 if isinstance(node, ast.FunctionDef):
                     with self.subTest(path=path.name, name=node.name):
                         self.assertLessEqual(node.end_lineno - node.lineno + 1, 40)
+
+    def test_each_name_is_bound_once(self):
+        # In the tests, too, as a test that is bound again would not be run.
+        for folder in (PACKAGE, TESTS):
+            for path, tree in trees(folder):
+                with self.subTest(path=path.name):
+                    self.assertEqual(bound_again(tree), [])
+
+    def test_names_that_are_bound_again_are_found(self):
+        once = "def f():\n    pass\n\n\n"
+        self.assertEqual(bound_again(ast.parse(once)), [])
+        self.assertEqual(bound_again(ast.parse(once * 2)), ["f"])
+        self.assertEqual(bound_again(ast.parse("from a import f\n" + once)), ["f"])
+        self.assertEqual(bound_again(ast.parse(once + "f = 1")), ["f"])
+        self.assertEqual(bound_again(ast.parse("class C:\n    n = 1\n    def n(self):\n        pass")), ["n"])
 
     def test_nothing_is_imported_from_outside(self):
         for path, tree in trees():
